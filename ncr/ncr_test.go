@@ -296,8 +296,9 @@ func likePattern(t *testing.T, r []rune) {
 	}
 }
 
-// Every text of some length of a reference's own characters, behind a head.
-func TestEveryShortText(t *testing.T) {
+// The last two to four places behind a reference's beginning are filled in
+// every way with some characters: ends, heads, right digits and wrong ones.
+func TestEveryEndBehindABeginning(t *testing.T) {
 	letters := []rune("&#x;04DFag")
 	text := []rune("&#x000000")
 	var fill func(at int)
