@@ -1,6 +1,7 @@
 package lines_test
 
 import (
+	"math"
 	"slices"
 	"testing"
 
@@ -59,6 +60,47 @@ func TestNumbersEnd(t *testing.T) {
 		}
 		if !slices.Equal(list, whole[:stop+1]) {
 			t.Errorf("up to %d: %x", stop, list)
+		}
+	}
+}
+
+func TestLine(t *testing.T) {
+	const text lines.Text = "\n21 a - b\n\n30 -\n31 00BB FE20\n  40 c d  \n50\n60 e"
+	told := map[int]lines.Text{
+		0x21: "21 a - b", 0x22: "21 a - b", 0x23: "21 a - b",
+		0x30: "30 -",
+		0x31: "31 00BB FE20", 0x32: "31 00BB FE20",
+		0x40: "  40 c d  ", 0x41: "  40 c d  ",
+		0x60: "60 e",
+	}
+	for n := -0x200; n < 0x400; n++ {
+		if got := text.Line(n); got != told[n] {
+			t.Errorf("%x: %q, not %q", n, got, told[n])
+		}
+	}
+	for _, n := range []int{math.MinInt, math.MinInt + 0x21, math.MinInt32, math.MaxInt32, 1<<32 + 0x21, math.MaxInt} {
+		if got := text.Line(n); got != "" {
+			t.Errorf("%x: %q", n, got)
+		}
+	}
+}
+
+func TestLineOfNone(t *testing.T) {
+	for _, text := range []lines.Text{"", "\n", " \n\n", "21", "21\n", "0"} {
+		for n := -1; n < 0x80; n++ {
+			if got := text.Line(n); got != "" {
+				t.Errorf("%q, %x: %q", text, n, got)
+			}
+		}
+	}
+}
+
+// Each number is told with its line alone as it is with all of them.
+func TestLineHasItsNumbers(t *testing.T) {
+	const text lines.Text = "\n21 a - 0062 - -\n30 - c\n32 d - e\n"
+	for n, r := range text.Numbers {
+		if list := all(text.Line(n)); !slices.Contains(list, told{n, r}) {
+			t.Errorf("%x: %x", n, list)
 		}
 	}
 }
