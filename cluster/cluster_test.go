@@ -402,6 +402,12 @@ func TestWaysOfManyMarks(t *testing.T) {
 	}
 	waysLike(t, c, way('и', c[1:]...), way('й', c[2:]...))
 	waysLike(t, c[:8], way('и', c[1:8]...), way('й', c[2:8]...))
+	const many = 50000
+	a, b := slices.Repeat([]rune{0x306}, many), slices.Repeat([]rune{0x301}, many)
+	c = slices.Concat([]rune{'и'}, a, b)
+	waysLike(t, c, way('и', c[1:]...), way('й', c[2:]...))
+	c = slices.Concat([]rune{'и'}, b, a)
+	waysLike(t, c, way('и', c[1:]...))
 }
 
 // P16.2.
